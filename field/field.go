@@ -11,27 +11,24 @@ import (
 
 // Join puts a | before each field, and a \ before each | and \ inside one.
 func Join(l []string) string {
-	var b strings.Builder
+	size := len(l)
 	for _, f := range l {
-		b.WriteByte('|')
-		writeEscaped(&b, f)
+		size += len(f)
 	}
-	return b.String()
+	b := make([]byte, 0, size)
+	for _, f := range l {
+		b = append(b, '|')
+		for i := range len(f) {
+			if isSpecial(f[i]) {
+				b = append(b, '\\')
+			}
+			b = append(b, f[i])
+		}
+	}
+	return string(b)
 }
 
-func writeEscaped(b *strings.Builder, f string) {
-	for {
-		i := strings.IndexAny(f, "|\\")
-		if i < 0 {
-			b.WriteString(f)
-			return
-		}
-		b.WriteString(f[:i])
-		b.WriteByte('\\')
-		b.WriteByte(f[i])
-		f = f[i+1:]
-	}
-}
+func isSpecial(c byte) bool { return c == '|' || c == '\\' }
 
 // Split undoes Join. The whole form is looked at before the number of fields,
 // so that ErrForm comes before ErrLong.
@@ -76,7 +73,7 @@ func count(s string) (int, api.Errno) {
 			n++
 		case '\\':
 			i++
-			if i == len(s) || s[i] != '|' && s[i] != '\\' {
+			if i == len(s) || !isSpecial(s[i]) {
 				return 0, api.ErrForm
 			}
 		}
