@@ -207,6 +207,8 @@ func TestValid(t *testing.T) {
 		{func(b *block.Block) { *b = first }, api.OK},
 		{func(b *block.Block) { b.View = 2 }, api.OK},
 		{func(b *block.Block) { b.View = api.MaxView }, api.OK},
+		{func(b *block.Block) { *b = s.Block(4, first, api.MaxTime) }, api.OK},
+		{func(b *block.Block) { *b = s.Block(4, first, 11) }, api.OK},
 		{func(b *block.Block) { b.View = 0 }, api.ErrView},
 		{func(b *block.Block) { b.View = -1 }, api.ErrView},
 		{func(b *block.Block) { b.View, b.QC.View = -1, -2 }, api.ErrView},

@@ -236,6 +236,66 @@ func TestTwin(t *testing.T) {
 	}
 }
 
+func TestTwinsDoNotWriteIntoEachOther(t *testing.T) {
+	s := sample.New(2, 5)
+	const client2 = 7 // the number of the client, for F = 2
+	c := made(t, s)
+	ask := func(c *client.Client, nonce int, whos ...int) {
+		c.Ask(sample.Cmd(nonce))
+		for _, who := range whos {
+			c.In(msg.Msg{Kind: msg.Stamped, To: client2, Stamp: s.Stamp(who, sample.Cmd(nonce), 50)})
+		}
+	}
+	certs := func(c *client.Client) []int {
+		return field.Map(c.Certs(), func(c median.Cert) int { return c.C.Nonce })
+	}
+	for nonce := range 3 {
+		ask(c, nonce, 0, 1, 2, 3, 4)
+	}
+	ask(c, 3, 0, 1, 2)
+	w := c.Twin()
+	ask(c, 3, 3)
+	ask(w, 3, 5)
+	ask(c, 3, 6)
+	ask(w, 3, 6)
+	if a, b := c.Certs(), w.Certs(); len(a) != 4 || len(b) != 4 || a[3].Stamps[3].Who != 3 || b[3].Stamps[3].Who != 5 {
+		t.Fatalf("P2501: %d and %d certificates", len(a), len(b))
+	}
+	w = c.Twin()
+	ask(c, 4, 0, 1, 2, 3, 4)
+	ask(w, 5, 0, 1, 2, 3, 4)
+	ask(w, 4, 0, 1, 2, 3, 4)
+	if a, b := certs(c), certs(w); !slices.Equal(a, []int{0, 1, 2, 3, 4}) || !slices.Equal(b, []int{0, 1, 2, 3, 5, 4}) {
+		t.Errorf("P2501: the twins have %v and %v", a, b)
+	}
+	if _, e := c.In(msg.Msg{Kind: msg.Acked, To: client2, Ack: s.Ack(0, w.Certs()[4])}); e != api.ErrName {
+		t.Errorf("P2501: a certificate of the twin is known: %v", e)
+	}
+	seq := func(c *client.Client, i int) {
+		for _, a := range s.Acks(5, c.Certs()[i]) {
+			c.In(msg.Msg{Kind: msg.Acked, To: client2, Ack: a})
+		}
+	}
+	for i := range 3 {
+		seq(c, i)
+	}
+	w = c.Twin()
+	seq(c, 3)
+	seq(w, 4)
+	if a, b := c.Seqs(), w.Seqs(); len(a) != 4 || len(b) != 4 || a[3].C.C.Nonce != 3 || b[3].C.C.Nonce != 4 {
+		t.Errorf("P2501: %d and %d Seqs", len(a), len(b))
+	}
+}
+
+func TestKeysAreNotRetained(t *testing.T) {
+	s := sample.New(1, 5)
+	c := made(t, s)
+	c.Ask(sample.Cmd(0))
+	x := stamped(s.Stamp(1, sample.Cmd(0), 50))
+	s.Keys.Roots[1] = 0
+	takes(t, c, x, 0)
+}
+
 func TestNothingIsShared(t *testing.T) {
 	s := sample.New(1, 5)
 	c := made(t, s)

@@ -148,6 +148,16 @@ func TestUnion(t *testing.T) {
 	if !slices.EqualFunc(got, []median.Cert{a, b, c, d}, median.Same) {
 		t.Errorf("P1501: Union at %v", times(got))
 	}
+	var mixed [4]cut.Report
+	for i, at := range []int64{50, 10, 30, 20, 25, 60, 70, 40, 5, 80, 90, 35} {
+		mixed[i%4].Certs = append(mixed[i%4].Certs, bare(i, at))
+	}
+	if l := times(cut.Union(mixed[:])); !slices.Equal(l, []int64{5, 10, 20, 25, 30, 35, 40, 50, 60, 70, 80, 90}) {
+		t.Errorf("P1501: Union at %v", l)
+	}
+	if l := times(cut.Union([]cut.Report{{Certs: []median.Cert{d, a, c}}})); !slices.Equal(l, []int64{10, 20, 40}) {
+		t.Errorf("P1501: Union of one report at %v", l)
+	}
 	got[0].Stamps[0].At = 99
 	if l[2].Certs[0].Stamps[0].At != 10 || !median.Same(l[0].Certs[0], d) {
 		t.Error("P2: the union shares memory with the reports")
@@ -164,7 +174,7 @@ func TestTextAndParse(t *testing.T) {
 	if got := cut.Text(r); got != want {
 		t.Errorf("P1501: Text = %q", got)
 	}
-	for _, x := range []cut.Report{r, s.Report(1, 0, 5), {Who: math.MinInt32, Lo: math.MinInt64, Hi: math.MaxInt64}} {
+	for _, x := range []cut.Report{r, s.Report(1, 0, 5), {Who: math.MinInt32, Lo: math.MinInt64, Hi: math.MaxInt64}, {Who: math.MaxInt32}} {
 		if got, e := cut.Parse(cut.Text(x)); e != api.OK || !cut.Same(got, x) {
 			t.Errorf("P1501: Parse = %v, %v", got, e)
 		}

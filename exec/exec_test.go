@@ -133,6 +133,17 @@ func TestTwin(t *testing.T) {
 	}
 }
 
+func TestTwinsDoNotWriteIntoEachOther(t *testing.T) {
+	x := made(t, 10, 20)
+	ran(t, x, over(0, 9, cert(pay(4, 0, 1), 1), cert(pay(4, 1, 1), 2), cert(pay(4, 2, 1), 3)), 3)
+	w := x.Twin()
+	ran(t, x, over(9, 20, cert(pay(4, 3, 1), 11)), 1)
+	ran(t, w, over(9, 20, cert(pay(5, 0, 2), 12)), 1)
+	if a, b := x.Entries(), w.Entries(); a[3].C.Client != 4 || b[3].C.Client != 5 {
+		t.Errorf("P2101: the twins have %v and %v", a[3], b[3])
+	}
+}
+
 func TestPrefix(t *testing.T) {
 	a, b, c := exec.Entry{At: 1}, exec.Entry{At: 2}, exec.Entry{At: 2, Err: api.ErrFunds}
 	for i, x := range []struct {

@@ -199,6 +199,42 @@ func TestACommitBesideWhatWasRun(t *testing.T) {
 	}
 }
 
+func TestACommitStopsAtTheFirstError(t *testing.T) {
+	s := made(t)
+	a := on(block.Genesis(), 1, 10)
+	b := on(a, 2, 20)
+	c := on(b, 3, 30)
+	applied(t, s, add(a), add(b), add(c), see(qc(c)))
+	// Beside a stands a chain of which the third block would follow again.
+	l := []block.Block{on(block.Genesis(), 11, 12)}
+	for i, hi := range []int64{10, 40, 50, 60} {
+		l = append(l, on(l[i], 12+i, hi))
+	}
+	for _, b := range l {
+		applied(t, s, add(b))
+	}
+	applied(t, s, see(qc(l[4])))
+	if x := s.Log(); x.Blocks() != 1 || x.Hi() != 10 {
+		t.Errorf("P2301: %d blocks are executed, up to %d", x.Blocks(), x.Hi())
+	}
+}
+
+func TestWhatIsAcceptedLateIsDroppedWithACommit(t *testing.T) {
+	s := made(t)
+	a := on(block.Genesis(), 1, 10)
+	b := on(a, 2, 20)
+	c := on(b, 3, 30)
+	applied(t, s, add(a), add(b), add(c), see(qc(c)), memo.Rec{Kind: memo.Cert, Cert: cert(0, 5)})
+	applied(t, s, see(block.QC{View: 9, Block: 99}), see(qc(a)), see(block.QC{}))
+	if s.Pool().Len() != 1 {
+		t.Error("P2301: a certificate is dropped without a commit")
+	}
+	applied(t, s, see(qc(c)))
+	if s.Pool().Len() != 0 || s.Log().Blocks() != 1 {
+		t.Error("P2301: a certificate is not dropped with a commit")
+	}
+}
+
 func TestFold(t *testing.T) {
 	a := on(block.Genesis(), 1, 10, cert(0, 5))
 	b := on(a, 2, 20)
@@ -235,12 +271,16 @@ func TestPartsAreCopies(t *testing.T) {
 	s := made(t)
 	q := block.QC{View: 4, Block: 99, Votes: []block.Vote{{Sig: key.Sig{Path: []hash.Digest{7}}}}}
 	applied(t, s, see(q))
+	a := on(block.Genesis(), 1, 10)
+	a.QC = q
+	applied(t, s, add(a), see(qc(a)))
 	q.Votes[0].Sig.Path[0] = 0
 	s.Safe().High.Votes[0].Sig.Path[0] = 0
+	s.Safe().Locked.Votes[0].Sig.Path[0] = 0
 	s.Pool().Close(50)
-	s.Tree().Add(on(block.Genesis(), 1, 10))
+	s.Tree().Add(on(block.Genesis(), 2, 10))
 	s.Log().Run(on(block.Genesis(), 1, 10))
-	if s.Safe().High.Votes[0].Sig.Path[0] != 7 || s.Pool().Floor() != 0 || s.Tree().Len() != 1 || s.Log().Blocks() != 0 {
+	if f := s.Safe(); f.High.Votes[0].Sig.Path[0] != 7 || f.Locked.Votes[0].Sig.Path[0] != 7 || s.Pool().Floor() != 0 || s.Tree().Len() != 2 || s.Log().Blocks() != 0 {
 		t.Error("P2: a part of the state is not a copy")
 	}
 }

@@ -40,6 +40,10 @@ func TestNew(t *testing.T) {
 			t.Errorf("P1301: New(%d) = %v, %v", room, p, e)
 		}
 	}
+	one := made(t, 1, 5)
+	if e := one.Accept(cert(1, 6)); e != api.ErrFull {
+		t.Errorf("P1301: a pool with room for one certificate: %v", e)
+	}
 	p := made(t, api.MaxPool)
 	if p.Floor() != 0 || p.Len() != 0 || len(p.All()) != 0 {
 		t.Error("P1301: a new pool is not empty")
@@ -164,6 +168,16 @@ func TestTwin(t *testing.T) {
 	}
 	if !slices.Equal(times(p.All()), []int64{20}) || !slices.Equal(times(w.All()), []int64{10, 15, 20}) {
 		t.Error("P1301: the twins are not independent")
+	}
+}
+
+func TestTwinsDoNotWriteIntoEachOther(t *testing.T) {
+	p := made(t, 9, 10, 20, 30)
+	w := p.Twin()
+	p.Accept(cert(7, 25))
+	w.Accept(cert(8, 5))
+	if a, b := times(p.All()), times(w.All()); !slices.Equal(a, []int64{10, 20, 25, 30}) || !slices.Equal(b, []int64{5, 10, 20, 30}) {
+		t.Errorf("P1301: the twins have %v and %v", a, b)
 	}
 }
 

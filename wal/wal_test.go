@@ -126,6 +126,10 @@ func TestTrim(t *testing.T) {
 	if e := w.Append("c"); e != api.OK || text(w) != "Sc" {
 		t.Errorf("P801: Trim makes no room: %v, %s", e, text(w))
 	}
+	one := made(t, 1, "", "a")
+	if e := one.Append("b"); e != api.ErrFull || text(one) != "a" {
+		t.Errorf("P801: a log with room for one record: %v, %s", e, text(one))
+	}
 	empty := made(t, 2, "", "")
 	if e := empty.Trim(1, "S"); e != api.ErrArg {
 		t.Errorf("P801: Trim of an empty log: %v", e)
@@ -147,6 +151,13 @@ func TestTwin(t *testing.T) {
 		t.Errorf("P801: %s and %s", text(w), text(v))
 	}
 	v.Trim(1, "S")
+	three := made(t, 9, "abc", "")
+	four := three.Twin()
+	three.Append("d")
+	four.Append("e")
+	if text(three) != "abcd" || text(four) != "abce" {
+		t.Errorf("P801: %s and %s", text(three), text(four))
+	}
 	if !slices.Equal(w.All(), []string{"a", "b", "c"}) {
 		t.Errorf("P801: the log went along with its twin: %s", text(w))
 	}
