@@ -195,6 +195,38 @@ func TestDayBadInOrder(t *testing.T) {
 	}
 }
 
+// TestDayMissesNoMessage has acts between that take no message off the list, though they name one.
+func TestDayMissesNoMessage(t *testing.T) {
+	s := sample.New(1, 7)
+	plain := judge.Act{Op: "inject", M: msg.Msg{Kind: msg.Close, To: 2}}
+	forged := judge.Act{Op: "inject", M: msg.Msg{Kind: msg.Stamped, To: 4, Stamp: s.Stamp(0, sample.Cmd(0), 50)}}
+	for _, op := range []string{"copy", "inject", "tick", "crash", "start", "ask", "retry", "none"} {
+		l := []judge.Act{plain, plain, forged, plain, {Op: "deliver"}, {Op: op, N: 1, M: plain.M, C: sample.Cmd(0)}}
+		l = append(l, judge.Act{Op: "drop", A: 1}, judge.Act{Op: "drop", A: 99}, judge.Act{Op: "drop", A: 98})
+		if r, e := judge.Day(conf(1), nil, l); e != api.OK || r.Clean {
+			t.Errorf("P2801: a forged message is missed with %s between: %v", op, e)
+		}
+	}
+}
+
+func TestCalmDeliversAtMost4000InARound(t *testing.T) {
+	c := conf(3)
+	c.Height, c.Lease, c.Room, c.Disk = 8, 256, 64, 1<<12
+	w := made(t, c)
+	for i := range w.N() {
+		w.Tick(i, 100)
+	}
+	for i := range 101 {
+		w.Ask(cmd.Cmd{Client: i % 16, Nonce: i / 16, From: 0, To: 1, Amount: 1})
+	}
+	if n := judge.Calm(w, 1, 0); n != 4000 || len(w.Ways()) == 0 {
+		t.Errorf("P2801: Calm delivers %d messages, %d are left", n, len(w.Ways()))
+	}
+	if n, left := judge.Calm(w, 1, 0), len(w.Ways()); n == 0 || left != 0 {
+		t.Errorf("P2801: the next round delivers %d messages, %d are left", n, left)
+	}
+}
+
 func TestCalm(t *testing.T) {
 	w := made(t, conf(1))
 	w.Ask(sample.Cmd(0))

@@ -952,6 +952,42 @@ func TestTwin(t *testing.T) {
 	}
 }
 
+func TestTwinsDoNotWriteIntoEachOther(t *testing.T) {
+	s := sample.New(1, 6)
+	n := made(t, conf(s, 1), 1000)
+	for i := range 3 {
+		in(t, n, ask(1, i))
+	}
+	w := n.Twin()
+	in(t, n, ask(1, 3))
+	in(t, w, ask(1, 4))
+	words := func(nonce int) string { return stamp.Words(cmd.Digest(sample.Cmd(nonce)), 1, 1003) }
+	if a, b := n.Signed(), w.Signed(); a[3] != words(3) || b[3] != words(4) {
+		t.Errorf("P2404: the twins signed %s and %s", a[3], b[3])
+	}
+}
+
+func TestRecordsAreCopies(t *testing.T) {
+	s := sample.New(1, 6)
+	n := made(t, conf(s, 2), 1000)
+	a := s.Block(1, block.Genesis(), 10)
+	in(t, n, certify(2, s.Cert(sample.Cmd(0), 50)))
+	for who := range 3 {
+		in(t, n, voted(s, who, 1, a, a))
+	}
+	l := n.Recs()
+	if len(l) != 5 || l[0].Kind != memo.Cert || l[2].Kind != memo.Block || l[3].Kind != memo.Quorum {
+		t.Fatalf("P2402: the log has %v", recs(n))
+	}
+	l[0].Cert.Stamps[0].Sig.Path[0]++
+	l[2].Block.Reports[0].Sig.Path[0]++
+	l[3].QC.Votes[0].Sig.Path[0]++
+	l = n.Recs()
+	if median.Valid(s.Keys, l[0].Cert) != api.OK || block.Valid(s.Keys, l[2].Block) != api.OK || block.ValidQC(s.Keys, l[3].QC) != api.OK {
+		t.Error("P2: a record was changed from outside")
+	}
+}
+
 func TestNothingIsShared(t *testing.T) {
 	s := sample.New(1, 6)
 	n := led(t, s)
