@@ -376,6 +376,14 @@ func TestClose(t *testing.T) {
 	}
 }
 
+func TestCloseAtTheEndOfTime(t *testing.T) {
+	s := sample.New(1, 5)
+	n := made(t, conf(s, 1), api.MaxTime)
+	if got := one(t, in(t, n, shut(2, 1, 0, api.MaxTime))); got.Report.Hi != api.MaxTime {
+		t.Errorf("P2402: the report is up to %d", got.Report.Hi)
+	}
+}
+
 // led is replica 1 that leads view 1 and has sent its Close.
 func led(t *testing.T, s sample.Set) *node.Node {
 	t.Helper()
@@ -521,6 +529,11 @@ func TestChain(t *testing.T) {
 	wrote(t, n, rec{memo.Block, 0}, rec{memo.Block, 0})
 	if l := n.Recs(); block.Digest(l[0].Block) != block.Digest(a) || block.Digest(l[1].Block) != block.Digest(b) || n.State().Tree().Len() != 3 {
 		t.Error("P2402: not just the valid blocks of the Chain are kept")
+	}
+	side := s.Block(2, a, 25)
+	fails(t, n, msg.Msg{Kind: msg.Acked, To: 3, Chain: []block.Block{side, s.Block(3, b, 30)}}, api.ErrState)
+	if n.State().Tree().Len() != 5 {
+		t.Error("P2402: a block beside the ones that are known is not kept")
 	}
 	c := conf(s, 3)
 	c.Disk = 1
@@ -771,6 +784,28 @@ func TestVoteIsNotKeptWithAFullLog(t *testing.T) {
 	}
 }
 
+func TestNoRoomForARecord(t *testing.T) {
+	s := sample.New(1, 6)
+	a := s.Block(1, block.Genesis(), 10)
+	for disk := range 3 {
+		c := conf(s, 2)
+		c.Disk = max(disk, 1)
+		n := made(t, c, 1000)
+		in(t, n, voted(s, 0, 1, a))
+		in(t, n, voted(s, 1, 1, a))
+		if disk == 0 {
+			fails(t, n, msg.Msg{Kind: msg.Acked, To: 2, Chain: []block.Block{s.Block(2, block.Genesis(), 9)}}, api.ErrState)
+			fails(t, n, voted(s, 3, 1, a), api.ErrFull)
+			fails(t, n, shut(0, 2, 0, 900), api.ErrFull)
+		} else {
+			fails(t, n, voted(s, 3, 1, a, a), api.ErrFull)
+		}
+		if n.State().View() != 1 || n.State().Safe().High.View != 0 || n.State().Pool().Floor() != 0 || len(n.Signed()) != 0 {
+			t.Errorf("P2402: with room for %d records ErrFull leaves something behind", c.Disk)
+		}
+	}
+}
+
 func TestCrashAndRecover(t *testing.T) {
 	s := sample.New(1, 6)
 	n := made(t, conf(s, 1), 1000)
@@ -964,6 +999,59 @@ func TestTwinsDoNotWriteIntoEachOther(t *testing.T) {
 	words := func(nonce int) string { return stamp.Words(cmd.Digest(sample.Cmd(nonce)), 1, 1003) }
 	if a, b := n.Signed(), w.Signed(); a[3] != words(3) || b[3] != words(4) {
 		t.Errorf("P2404: the twins signed %s and %s", a[3], b[3])
+	}
+}
+
+func TestTwinsHearByThemselves(t *testing.T) {
+	s := sample.New(2, 6)
+	c := conf(s, 2)
+	n := made(t, c, 1000)
+	hear := func(n *node.Node, whos ...int) {
+		for _, who := range whos {
+			in(t, n, voted(s, who, 1, block.Block{View: 1, Hi: 9}))
+		}
+	}
+	hear(n, 0, 1, 2)
+	w := n.Twin()
+	hear(n, 3)
+	hear(w, 4)
+	hear(n, 5)
+	hear(w, 5)
+	for want, n := range map[int]*node.Node{3: n, 4: w} {
+		l := n.Recs()
+		if len(l) != 1 || l[0].QC.Votes[3].Who != want {
+			t.Fatalf("P2404: the twins write into each other: %d records", len(l))
+		}
+	}
+}
+
+func TestMessagesAreNotRetained(t *testing.T) {
+	s := sample.New(1, 6)
+	n := made(t, conf(s, 2), 1000)
+	a := s.Block(1, block.Genesis(), 10)
+	var asked []msg.Msg
+	for who := range 3 {
+		m := voted(s, who, 1, a)
+		asked = append(asked, in(t, n, m)...)
+		m.Vote.Sig.Path[0]++
+	}
+	if q := n.Recs()[0].QC; len(asked) != 0 || block.ValidQC(s.Keys, q) != api.OK {
+		t.Error("P2: a vote is shared with its message")
+	}
+	for who := range 3 {
+		m := next(s, who, 6, s.QC(a))
+		in(t, n, m)
+		m.View.High.Votes[0].Sig.Path[0]++
+		m.View.Sig.Path[0]++
+	}
+	if q := n.Recs()[1].QC; q.View != 1 || block.ValidQC(s.Keys, q) != api.OK {
+		t.Error("P2: a NewView is shared with its message")
+	}
+	m := certify(2, s.Cert(sample.Cmd(0), 50))
+	got := one(t, in(t, n, m))
+	m.Cert.Stamps[0].Sig.Path[0]++
+	if median.Valid(s.Keys, got.Cert) != api.OK {
+		t.Error("P2: a certificate is shared with its message")
 	}
 }
 

@@ -9,6 +9,7 @@ import (
 	"folkmoot/block"
 	"folkmoot/cmd"
 	"folkmoot/cut"
+	"folkmoot/hash"
 	"folkmoot/median"
 	"folkmoot/msg"
 	"folkmoot/sample"
@@ -136,7 +137,7 @@ func TestCleanLooksAtValidSignaturesOnly(t *testing.T) {
 	none := block.Block{QC: block.QC{Votes: []block.Vote{s.Vote(0, 1, 7)}}, Reports: []cut.Report{s.Report(0, 3, 4)}}
 	for i, m := range []msg.Msg{
 		{Stamp: moved}, {Stamp: renamed}, {Stamp: broken}, {Stamp: alien},
-		{Block: none}, {Chain: []block.Block{none}},
+		{Block: none}, {Block: none, Chain: []block.Block{none}},
 	} {
 		if !watch.Clean(w, nil, []msg.Msg{m}) {
 			t.Errorf("P2701: case %d is not clean", i)
@@ -160,26 +161,67 @@ func TestCleanTakesWhatWasSigned(t *testing.T) {
 	}
 }
 
-// twoOfOneDigest are stamps whose Words are different and have the same digest.
-func twoOfOneDigest() (stamp.Stamp, stamp.Stamp) {
-	return stamp.Stamp{Cmd: 0xb86b99579339f06f, At: 1}, stamp.Stamp{Cmd: 0x76d71cc68fb94a3e, At: 1}
+// sameDigests has pairs of things whose texts are different and have the same digest. Each pair
+// was found by a search of some minutes.
+func sameDigests() map[string][2]msg.Msg {
+	pay := func(from, to int) cmd.Cmd { return cmd.Cmd{From: from, To: to, Amount: 1} }
+	on := func(parent hash.Digest) msg.Msg {
+		return msg.Msg{Block: block.Block{View: 1, Parent: parent, Hi: 1}}
+	}
+	return map[string][2]msg.Msg{
+		"stamp": {
+			{Stamp: stamp.Stamp{Cmd: 0xb86b99579339f06f, At: 1}}, {Stamp: stamp.Stamp{Cmd: 0x76d71cc68fb94a3e, At: 1}},
+		},
+		"command":     {{Cmd: pay(0x8c771219, 0xa06e2455)}, {Cmd: pay(0xf8ded285, 0xece14bb1)}},
+		"certificate": {{Cert: median.Cert{C: pay(0x4ae815cb, 0xc12319cd)}}, {Cert: median.Cert{C: pay(0xc7f76ffb, 0x8a59402a)}}},
+		"block":       {on(0x5a6b0cd9bc937b1e), on(0x1ef47de7fbd8c767)},
+	}
+}
+
+func TestTheDigestsAreTheSame(t *testing.T) {
+	l := sameDigests()
+	if a, b := l["command"][0].Cmd, l["command"][1].Cmd; a == b || cmd.Digest(a) != cmd.Digest(b) {
+		t.Error("the two commands have not one digest")
+	}
+	if a, b := l["stamp"][0].Stamp.Cmd, l["stamp"][1].Stamp.Cmd; a == b || stamp.Digest(a, 0, 1) != stamp.Digest(b, 0, 1) {
+		t.Error("the two stamps have not one digest")
+	}
+	if a, b := l["certificate"][0].Cert, l["certificate"][1].Cert; median.Same(a, b) || median.Digest(a) != median.Digest(b) {
+		t.Error("the two certificates have not one digest")
+	}
+	if a, b := l["block"][0].Block, l["block"][1].Block; a.Parent == b.Parent || block.Digest(a) != block.Digest(b) {
+		t.Error("the two blocks have not one digest")
+	}
 }
 
 func TestCleanSeesForgedDigests(t *testing.T) {
 	w, _ := made(t)
-	a, b := twoOfOneDigest()
-	if a.Cmd == b.Cmd || stamp.Digest(a.Cmd, 0, 1) != stamp.Digest(b.Cmd, 0, 1) {
-		t.Fatal("P2701: the two stamps have not one digest")
+	for name, l := range sameDigests() {
+		if watch.Clean(w, nil, l[:]) || watch.Clean(w, []int{0, 1, 2, 3}, []msg.Msg{l[1], {}, l[0]}) {
+			t.Errorf("P2701: two texts of one digest are clean: %s", name)
+		}
+		if !watch.Clean(w, nil, []msg.Msg{l[0], l[0]}) || !watch.Clean(w, nil, l[1:]) {
+			t.Errorf("P2701: one text alone is not clean: %s", name)
+		}
 	}
-	if watch.Clean(w, nil, []msg.Msg{{Stamp: a}, {Stamp: b}}) {
-		t.Error("P2701: two texts of one digest are clean")
+}
+
+func TestCleanSeesForgedDigestsInBlocks(t *testing.T) {
+	w, _ := made(t)
+	l := sameDigests()
+	a, b := l["stamp"][0], l["stamp"][1].Stamp
+	deep := median.Cert{C: l["command"][1].Cmd, Stamps: []stamp.Stamp{b}}
+	hidden := block.Block{View: 1, Reports: []cut.Report{{}, {Certs: []median.Cert{{}, deep}}}}
+	for i, m := range []msg.Msg{
+		{Chain: []block.Block{{View: 5}, hidden}}, {Block: hidden}, {Report: hidden.Reports[1]}, {Cert: deep},
+	} {
+		if watch.Clean(w, []int{0}, []msg.Msg{a, m}) || watch.Clean(w, []int{0}, []msg.Msg{m, l["command"][0]}) {
+			t.Errorf("P2701: case %d: two texts of one digest are clean, one of them deep in a message", i)
+		}
 	}
-	hidden := msg.Msg{Chain: []block.Block{{View: 1, Reports: []cut.Report{{Certs: []median.Cert{{Stamps: []stamp.Stamp{b}}}}}}}}
-	if watch.Clean(w, []int{0}, []msg.Msg{{Stamp: a}, hidden}) {
-		t.Error("P2701: two texts of one digest are clean, one of them deep in a block")
-	}
-	if !watch.Clean(w, nil, []msg.Msg{{Stamp: a}, {Stamp: a}}) || !watch.Clean(w, nil, []msg.Msg{hidden}) {
-		t.Error("P2701: one text alone is not clean")
+	hidden.View = 0
+	if !watch.Clean(w, nil, []msg.Msg{{Stamp: a.Stamp, Block: hidden, Chain: []block.Block{hidden}}}) {
+		t.Error("P2701: a block in the View 0 is examined")
 	}
 }
 
