@@ -130,8 +130,10 @@ func TestDay(t *testing.T) {
 func TestDayThatIsNotClean(t *testing.T) {
 	s := sample.New(1, 7)
 	forged := judge.Act{Op: "inject", M: msg.Msg{Kind: msg.Stamped, To: 4, Stamp: s.Stamp(0, sample.Cmd(0), 50)}}
+	plain := judge.Act{Op: "inject", M: msg.Msg{Kind: msg.Close, To: 2}}
 	for name, after := range map[string][]judge.Act{
-		"in the list": nil, "dropped": {{Op: "drop"}}, "delivered": {{Op: "deliver", A: 5}},
+		"selected by a negative number": {plain, {Op: "deliver", A: -3}, {Op: "drop", A: 9}},
+		"in the list":                   nil, "dropped": {{Op: "drop"}}, "delivered": {{Op: "deliver", A: 5}},
 		"torn": {{Op: "torn", A: -1}}, "among others": {{Op: "copy"}, {Op: "deliver"}, {Op: "drop", A: 3}, {Op: "drop", A: 8}},
 	} {
 		for _, bad := range [][]int{nil, {1}, {0}} {
@@ -218,6 +220,9 @@ func TestCalmDeliversAtMost4000InARound(t *testing.T) {
 	}
 	for i := range 101 {
 		w.Ask(cmd.Cmd{Client: i % 16, Nonce: i / 16, From: 0, To: 1, Amount: 1})
+	}
+	for range 3 {
+		w.Inject(msg.Msg{Kind: msg.Close})
 	}
 	if n := judge.Calm(w, 1, 0); n != 4000 || len(w.Ways()) == 0 {
 		t.Errorf("P2801: Calm delivers %d messages, %d are left", n, len(w.Ways()))

@@ -206,6 +206,33 @@ func TestCleanSeesForgedDigests(t *testing.T) {
 	}
 }
 
+// TestCleanReadsWhatWasSigned has two commands for which the Words of a stamp of replica 0 at the
+// time 1000 have the same digest.
+func TestCleanReadsWhatWasSigned(t *testing.T) {
+	w, _ := made(t)
+	a := cmd.Cmd{Client: 2, Nonce: 777032, From: 1, To: 3, Amount: 3438181524}
+	b := cmd.Cmd{Client: 15, Nonce: 205159, From: 15, To: 4, Amount: 7941306892}
+	other := stamp.Stamp{Cmd: cmd.Digest(b), At: 1000}
+	if cmd.Digest(a) == other.Cmd || stamp.Digest(cmd.Digest(a), 0, 1000) != stamp.Digest(other.Cmd, 0, 1000) {
+		t.Fatal("the two stamps have not one digest")
+	}
+	if !watch.Clean(w, nil, []msg.Msg{{Stamp: other}}) {
+		t.Error("P2701: one text alone is not clean")
+	}
+	w.Ask(a)
+	w.Deliver(0)
+	if watch.Clean(w, nil, []msg.Msg{{Stamp: other}}) {
+		t.Error("P2701: a text with the digest of one that was signed is clean")
+	}
+	if !watch.Clean(w, []int{0}, []msg.Msg{{Stamp: other}}) {
+		t.Error("P2701: what a bad replica Signed is read")
+	}
+	w.Crash(0)
+	if watch.Clean(w, nil, []msg.Msg{{Stamp: other}}) {
+		t.Error("P2701: what a replica that is down Signed is not read")
+	}
+}
+
 func TestCleanSeesForgedDigestsInBlocks(t *testing.T) {
 	w, _ := made(t)
 	l := sameDigests()
