@@ -1,0 +1,100 @@
+package client_test
+
+import (
+	"testing"
+
+	"folkmoot/ack"
+	"folkmoot/api"
+	"folkmoot/client"
+	"folkmoot/cmd"
+	"folkmoot/hash"
+	"folkmoot/key"
+	"folkmoot/median"
+	"folkmoot/msg"
+	"folkmoot/quorum"
+	"folkmoot/stamp"
+)
+
+// The certificates of the commands alike(0) and alike(1), with these stamps, have one digest:
+// they were searched for, together with the keys.
+var (
+	alikeRoots = []hash.Digest{0xc362bf06d57ef59d, 0x4863f862a38e5a18, 0xc81f055856386b2f, 0xec37078239d7fe9d}
+	alikePaths = [2][3][]hash.Digest{
+		{{0, 0x1d9bb2d65683ef79}, {0, 0xf1e8c237b2ab8556}, {0x744e70fad3181173, 0x888a13fb00516de2}},
+		{{0, 0x78d67f3ce549cd47}, {0, 0x4cef2ba9035f6688}, {0xeb814bb70842ac95, 0xb0059ad3fbc5dfc1}},
+	}
+	alikeAcks = [3][]hash.Digest{{0, 0x2c5dc89208325f0}, {0, 0x61b82bd28b9e4e30}, {0, 0x6ad2d7fd8aae3486}}
+)
+
+func alike(nonce int) cmd.Cmd { return cmd.Cmd{Client: 1, Nonce: nonce, From: 0, To: 1, Amount: 1} }
+
+func alikeStamped(nonce, who int) msg.Msg {
+	return stamped(stamp.Stamp{
+		Cmd: cmd.Digest(alike(nonce)), Who: who, At: int64(10 + 10*nonce),
+		Sig: key.Sig{Who: who, Path: alikePaths[nonce][who]},
+	})
+}
+
+func alikeAcked(c *client.Client, who int) msg.Msg {
+	d := median.Digest(c.Certs()[0])
+	return acked(ack.Ack{Cert: d, Who: who, Sig: key.Sig{Who: who, Path: alikeAcks[who]}})
+}
+
+// alikeAsked is a client that was asked for both commands.
+func alikeAsked(t *testing.T) *client.Client {
+	t.Helper()
+	c, e := client.New(stamp.Keys{Conf: quorum.Conf{F: 1}, Roots: alikeRoots, Height: 2})
+	if e != api.OK {
+		t.Fatalf("P2501: New = %v", e)
+	}
+	for nonce := range 2 {
+		if _, e := c.Ask(alike(nonce)); e != api.OK {
+			t.Fatalf("P2501: Ask = %v", e)
+		}
+	}
+	return c
+}
+
+func alikeCertified(t *testing.T, c *client.Client, nonce int) {
+	t.Helper()
+	for who, want := range []int{0, 0, n} {
+		takes(t, c, alikeStamped(nonce, who), want)
+	}
+}
+
+// seqOf asks for one Seq, with the first certificate, and that both have one digest.
+func seqOf(t *testing.T, c *client.Client, nonce int) {
+	t.Helper()
+	certs, seqs := c.Certs(), c.Seqs()
+	if len(certs) != 2 || median.Digest(certs[0]) != median.Digest(certs[1]) || median.Same(certs[0], certs[1]) {
+		t.Fatalf("P2501: %d certificates, not two of one digest", len(certs))
+	}
+	if len(seqs) != 1 || seqs[0].C.C != alike(nonce) || !median.Same(seqs[0].C, certs[0]) {
+		t.Errorf("P2501, P9: %d Seqs, not one with the certificate that came first", len(seqs))
+	}
+}
+
+func TestAcksAreForTheFirstCertificateOfADigest(t *testing.T) {
+	for first := range 2 {
+		c := alikeAsked(t)
+		alikeCertified(t, c, first)
+		alikeCertified(t, c, 1-first)
+		for who := range 3 {
+			c = c.Twin()
+			takes(t, c, alikeAcked(c, who), 0)
+			fails(t, c, alikeAcked(c, who), api.ErrTwice)
+		}
+		seqOf(t, c, first)
+	}
+}
+
+func TestALaterCertificateTakesNoAcks(t *testing.T) {
+	c := alikeAsked(t)
+	alikeCertified(t, c, 0)
+	takes(t, c, alikeAcked(c, 0), 0)
+	takes(t, c, alikeAcked(c, 1), 0)
+	alikeCertified(t, c, 1)
+	fails(t, c, alikeAcked(c, 0), api.ErrTwice)
+	takes(t, c, alikeAcked(c, 2), 0)
+	seqOf(t, c, 0)
+}
