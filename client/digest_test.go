@@ -12,6 +12,7 @@ import (
 	"folkmoot/median"
 	"folkmoot/msg"
 	"folkmoot/quorum"
+	"folkmoot/sample"
 	"folkmoot/stamp"
 )
 
@@ -97,4 +98,70 @@ func TestALaterCertificateTakesNoAcks(t *testing.T) {
 	fails(t, c, alikeAcked(c, 0), api.ErrTwice)
 	takes(t, c, alikeAcked(c, 2), 0)
 	seqOf(t, c, 0)
+}
+
+// pair is two commands of one digest, they were searched for.
+func pair() [2]cmd.Cmd {
+	return [2]cmd.Cmd{
+		{Client: 1, Nonce: 224594, From: 2, To: 7, Amount: 760664206598},
+		{Client: 1, Nonce: 154886, From: 1, To: 5, Amount: 876867008555},
+	}
+}
+
+func TestCommandsOfOneDigestAreAskedOneByOne(t *testing.T) {
+	for i, x := range pair() {
+		y := pair()[1-i]
+		if cmd.Digest(x) != cmd.Digest(y) {
+			t.Fatal("P901: not of one digest")
+		}
+		c := made(t, sample.New(1, 2))
+		asks(t, c.Ask, x, api.OK)
+		asks(t, c.Retry, y, api.ErrName)
+		asks(t, c.Ask, x, api.ErrTwice)
+		w := c.Twin()
+		asks(t, c.Ask, y, api.OK)
+		asks(t, w.Retry, y, api.ErrName)
+		for _, z := range pair() {
+			asks(t, c.Ask, z, api.ErrTwice)
+			asks(t, c.Retry, z, api.OK)
+		}
+	}
+}
+
+// asks asks for an Ask of the command to all replicas, or for this error.
+func asks(t *testing.T, call func(cmd.Cmd) ([]msg.Msg, api.Errno), x cmd.Cmd, want api.Errno) {
+	t.Helper()
+	l, e := call(x)
+	if e != want || e != api.OK && len(l) != 0 {
+		t.Fatalf("P2501: %d messages, %v, want %v", len(l), e, want)
+	}
+	if e == api.OK {
+		toAll(t, l, msg.Msg{Kind: msg.Ask, Cmd: x})
+	}
+}
+
+func TestStampsAreForTheFirstCommandOfADigest(t *testing.T) {
+	for i, x := range pair() {
+		y := pair()[1-i]
+		s := sample.New(1, 2)
+		c := made(t, s)
+		asks(t, c.Ask, x, api.OK)
+		takes(t, c, stamped(s.Stamp(0, x, 40)), 0)
+		asks(t, c.Ask, y, api.OK)
+		fails(t, c, stamped(s.Stamp(0, y, 40)), api.ErrTwice)
+		takes(t, c, stamped(s.Stamp(1, y, 50)), 0)
+		l := takes(t, c, stamped(s.Stamp(2, x, 60)), n)
+		if certs := c.Certs(); len(certs) != 1 || certs[0].C != x || median.Valid(s.Keys, certs[0]) != api.OK {
+			t.Fatalf("P2501, P9: Certs = %v, not one of the command that was asked first", certs)
+		}
+		certify := msg.Msg{Kind: msg.Certify, Cert: c.Certs()[0]}
+		toAll(t, l, certify)
+		fails(t, c, stamped(s.Stamp(3, y, 70)), api.ErrState)
+		l, e := c.Retry(x)
+		if e != api.OK {
+			t.Errorf("P2501: Retry = %v", e)
+		}
+		toAll(t, l, certify)
+		asks(t, c.Retry, y, api.OK)
+	}
 }
